@@ -1,0 +1,1 @@
+"""Nearenough: quick rules that are never worse than a told factor."""
