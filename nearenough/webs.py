@@ -82,3 +82,18 @@ def shown_web(web):
 def ties_of(web, point):
     """The rising list of the numbers of the ties that have the point as an end."""
     return [at for at, tie in enumerate(web[1]) if point in tie]
+
+
+def neighbours(web):
+    """For each point the list of the points at the other ends of its ties."""
+    many, ties = web
+    beside = [[] for point in range(many)]
+    for one, other in ties:
+        beside[one].append(other)
+        beside[other].append(one)
+    return beside
+
+
+def rise_below(numbers, many):
+    """Whether the numbers rise, the first from 0 on and the last below many."""
+    return all([low < high for low, high in zip([-1] + numbers, numbers + [many])])
