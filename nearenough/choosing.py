@@ -1,7 +1,7 @@
 """Choosing: few of several sets, so that they have all things together."""
 
 from nearenough.errors import Lacking
-from nearenough.fractions import common_factor, harmonic
+from nearenough.fractions import harmonic, over_one_bottom
 
 
 def lacking_things(many, sets, numbers):
@@ -34,14 +34,6 @@ def is_choice(many, sets, numbers):
     return len(set(numbers)) == len(numbers) and not lacking_things(many, sets, numbers)
 
 
-def common_bottom(shares):
-    """A whole number that each share's bottom divides."""
-    bottom = 1
-    for share in shares:
-        bottom = bottom // common_factor(bottom, share[1]) * share[1]
-    return bottom
-
-
 def are_payable(sets, tops, bottom):
     """Whether each set's shares, tops over one bottom, are within the harmonic number of its length."""
     for things in sets:
@@ -55,9 +47,7 @@ def lets_choice(many, sets, choice, shares):
     """Whether the paper shows that no choice has fewer sets by more than the told factor."""
     if not is_choice(many, sets, choice) or len(shares) != many:
         return False
-    # Sums are whole numbers over one bottom: fractions made lower at each step are slow.
-    bottom = common_bottom(shares)
-    tops = [share[0] * (bottom // share[1]) for share in shares]
+    tops, bottom = over_one_bottom(shares)
     if any([top < 0 for top in tops]) or sum(tops) != len(choice) * bottom:
         return False
     return are_payable(sets, tops, bottom)

@@ -43,3 +43,12 @@ def harmonic(many):
         top, bottom = top * step + bottom, bottom * step
     # Lowest terms are sought once, here, since seeking them at each step is slow.
     return fraction(top, bottom)
+
+
+def over_one_bottom(parts):
+    """The tuple (tops, bottom) of the fractions' tops over one bottom that they have in common."""
+    # So that many fractions are summed as whole numbers: lowest terms at each step are slow.
+    bottom = 1
+    for part in parts:
+        bottom = bottom // common_factor(bottom, part[1]) * part[1]
+    return ([part[0] * (bottom // part[1]) for part in parts], bottom)

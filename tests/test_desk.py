@@ -282,7 +282,8 @@ class NoSuchRow(DeskCase):
         self.assert_no_row(" ", "  ", "   ", "cover  3,5,4,1", "cover nosuch ", "sides nosuch ", "match  1")
 
     def test_numbers_that_are_none(self):
-        for number in ("01", "00", "1000000000000", "-1", "+1", "1.0", "1e3", "x", "one", "1_0", "0x1", "-0", "--", "1/1"):
+        for number in ("01", "00", "1000000000000", "-1", "+1", "1.0", "1e3", "x", "one", "1_0", "0x1", "-0", "--",
+                       "1/1"):
             self.assert_no_row(f"web b {number} -", f"deal {number} 1", f"dealbig {number} 1", f"boxes {number} 1",
                                f"boxesfirst {number} 1", f"sack {number} 1/1", f"pages {number} 1",
                                f"pagesahead {number} 1", f"stretches {number} 1")
@@ -303,12 +304,13 @@ class NoSuchRow(DeskCase):
             self.assert_no_row(f"sack 10 {word}")
 
     def test_ties_that_are_none(self):
-        for word in ("0", "0-", "-1", "0-1-", "0--1", "0-1-2", "0-1,", ",0-1", "0-1,,0-2", "0/1", "0-1,-", "-,0-1", "--",
-                     "a-b", "00-1", "0-01", "0-1000000000000"):
+        for word in ("0", "0-", "-1", "0-1-", "0--1", "0-1-2", "0-1,", ",0-1", "0-1,,0-2", "0/1", "0-1,-", "-,0-1",
+                     "--", "a-b", "00-1", "0-01", "0-1000000000000"):
             self.assert_no_row(f"web b 9 {word}")
 
     def test_sides_that_are_none(self):
-        self.assert_no_row("sides a 0002", "sides a 000x", "sides a -", "sides a 0,0,0,0", "sides a 00-0", "sides a 0000\n")
+        self.assert_no_row("sides a 0002", "sides a 000x", "sides a -", "sides a 0,0,0,0", "sides a 00-0",
+                           "sides a 0000\n")
 
     def test_numbers_beyond_what_is_told(self):
         self.assert_no_row("deal 0 1", "deal 21 1", "dealbig 0 -", "dealbig 21 -", "boxes 0 -", "boxesfirst 0 -",
@@ -356,9 +358,9 @@ class NoSuchName(DeskCase):
         self.assert_no_row("cover b", "match b", "sides b", "cover b 1 2", "match b 1 2", "sides b 0 1")
 
     def test_behind_their_writing(self):
-        self.assert_no_row("cover b x", "cover b 01", "cover b 1,,2", "cover b 1000000000000", "match b 1;2", "match b ,",
-                           "match b 007", "sides b 012", "sides b x", "sides b 0,1", "cover b ", "sides  01",
-                           "cover  1,2", "cover ABC 1,x")
+        self.assert_no_row("cover b x", "cover b 01", "cover b 1,,2", "cover b 1000000000000", "match b 1;2",
+                           "match b ,", "match b 007", "sides b 012", "sides b x", "sides b 0,1", "cover b ",
+                           "sides  01", "cover  1,2", "cover ABC 1,x")
 
     def test_no_name_is_kept_by_a_refused_web(self):
         self.assert_no_web("web b 2 1-0")

@@ -61,7 +61,7 @@ def stretches_by_the_words(room, asks):
 
 
 def fewest_misses(room, asks):
-    """The fewest misses of all ways of keeping, in which a page goes only for a miss, though not only for want of room."""
+    """The fewest misses of all ways of keeping, in which pages go only for a miss, if not for want of room alone."""
     ways = {frozenset(): 0}
     for page in asks:
         then = {}
