@@ -1,7 +1,7 @@
 import unittest
 from fractions import Fraction
 
-from nearenough.fractions import fraction, harmonic, less, minus, plus, times
+from nearenough.fractions import fraction, harmonic, less, minus, over_one_bottom, plus, times
 
 PARTS = sorted({Fraction(top, bottom) for top in range(-7, 8) for bottom in range(1, 8)})
 PARTS += [Fraction(10 ** 12, 10 ** 12 - 1), Fraction(-(10 ** 30), 7 ** 20), Fraction(1, 10 ** 24)]
@@ -97,6 +97,21 @@ class Harmonic(FractionCase):
         for many in range(1, 231):
             whole += Fraction(1, many)
             self.assert_fraction(harmonic(many), *pair(whole))
+
+
+class OneBottom(FractionCase):
+    def test_by_hand(self):
+        self.assertEqual(over_one_bottom([(1, 2), (1, 3)]), ([3, 2], 6))
+        self.assertEqual(over_one_bottom([(1, 2), (-3, 4), (5, 1)]), ([2, -3, 20], 4))
+        self.assertEqual(over_one_bottom([(0, 1), (7, 1)]), ([0, 7], 1))
+        self.assertEqual(over_one_bottom([(5, 6), (3, 10), (1, 15)]), ([25, 9, 2], 30))
+
+    def test_of_none(self):
+        self.assertEqual(over_one_bottom([]), ([], 1))
+
+    def test_all_parts(self):
+        tops, bottom = over_one_bottom([pair(part) for part in PARTS])
+        self.assertEqual([Fraction(top, bottom) for top in tops], list(PARTS))
 
 
 if __name__ == "__main__":
